@@ -1,0 +1,1 @@
+"""Deedloom: programs of words laid into beats and made into gates."""
