@@ -114,6 +114,110 @@ class Language(unittest.TestCase):
 
         self.each(judge)
 
+    def test_no_two_files_draw_from_one_another(self):
+        drawn = {path.stem: {node.module.split(".")[1] for node in ast.parse(source).body
+                             if isinstance(node, ast.ImportFrom)} for path, source in sources().items()}
+        self.assertEqual(drawn["__init__"], set())
+        settled = set()
+        while len(settled) < len(drawn):
+            ready = {name for name, others in drawn.items() if others <= settled} - settled
+            self.assertNotEqual(ready, set(), sorted(set(drawn) - settled))
+            settled |= ready
+
+    def test_the_top_of_a_file(self):
+        def judge(source, tree):
+            names = [node.name for node in tree.body if isinstance(node, (ast.FunctionDef, ast.ClassDef))]
+            for node in tree.body[1:]:
+                self.assertIsInstance(node, (ast.ImportFrom, ast.FunctionDef, ast.ClassDef, ast.Assign))
+                if isinstance(node, ast.Assign):
+                    names.append(node.targets[0].id)
+                    for part in ast.walk(node.value):
+                        self.assertNotIsInstance(part, (ast.Call, ast.BinOp, ast.ListComp, ast.Set))
+            self.assertIsInstance(tree.body[0].value.value, str)
+            self.assertEqual(len(names), len(set(names)))
+
+        self.each(judge)
+
+    def test_locals_are_not_called_like_classes_or_imports(self):
+        def judge(source, tree):
+            taken = [name for node in tree.body if isinstance(node, ast.ImportFrom) for name in bound_names(node)]
+            taken += [node.name for node in tree.body if isinstance(node, ast.ClassDef)]
+            for node in ast.walk(tree):
+                if isinstance(node, ast.FunctionDef):
+                    within = [part.arg for part in ast.walk(node) if isinstance(part, ast.arg)]
+                    within += [part.id for part in ast.walk(node)
+                               if isinstance(part, ast.Name) and isinstance(part.ctx, ast.Store)]
+                    self.assertEqual(set(within) & set(taken), set(), node.name)
+
+        self.each(judge)
+
+    def test_walked_at_once(self):
+        def judge(source, tree):
+            on_the_spot = []
+            for node in ast.walk(tree):
+                if isinstance(node, (ast.For, ast.comprehension)):
+                    on_the_spot.append(node.iter)
+                elif isinstance(node, ast.Call) and isinstance(node.func, ast.Name) and node.args:
+                    if node.func.id in ("list", "tuple", "dict", "sorted", "sum", "any", "all", "enumerate", "zip"):
+                        on_the_spot.append(node.args[0])
+                    elif node.func.id in ("min", "max") and len(node.args) == 1:
+                        on_the_spot.append(node.args[0])
+            for node in ast.walk(tree):
+                if isinstance(node, ast.Call):
+                    called = getattr(node.func, "id", None) or getattr(node.func, "attr", None)
+                    if called in ("zip", "enumerate", "reversed", "range", "items", "keys", "values"):
+                        self.assertTrue(any(node is spot for spot in on_the_spot), node.lineno)
+
+        self.each(judge)
+
+    def test_sets_are_only_asked(self):
+        def judge(source, tree):
+            asked = []
+            for node in ast.walk(tree):
+                if isinstance(node, ast.Compare):
+                    asked += [node.left] + node.comparators
+                elif isinstance(node, ast.Call) and getattr(node.func, "id", None) in ("len", "sorted"):
+                    asked += node.args
+            for node in ast.walk(tree):
+                self.assertNotIsInstance(node, ast.Set)
+                if isinstance(node, ast.Call) and getattr(node.func, "id", None) in ("set", "frozenset"):
+                    self.assertTrue(any(node is spot for spot in asked), node.lineno)
+
+        self.each(judge)
+
+    def test_is_and_texts_with_names(self):
+        def judge(source, tree):
+            for node in ast.walk(tree):
+                if isinstance(node, ast.Compare):
+                    for op, part in zip(node.ops, node.comparators):
+                        if isinstance(op, (ast.Is, ast.IsNot)):
+                            self.assertIn(getattr(part, "value", "none"), (None, True, False))
+                if isinstance(node, ast.FormattedValue):
+                    self.assertIsInstance(node.value, ast.Name)
+                    self.assertIsNone(node.format_spec)
+                if isinstance(node, ast.ListComp):
+                    self.assertEqual(len(node.generators), 1)
+                    self.assertLessEqual(len(node.generators[0].ifs), 1)
+
+        self.each(judge)
+
+    def test_what_is_walked_is_not_changed(self):
+        changes = ("append", "clear", "extend", "insert", "pop", "remove", "reverse", "setdefault", "update")
+
+        def judge(source, tree):
+            for loop in [node for node in ast.walk(tree) if isinstance(node, ast.For)]:
+                walked = {ast.unparse(part) for part in ast.walk(loop.iter)
+                          if isinstance(part, (ast.Name, ast.Attribute, ast.Subscript))}
+                if isinstance(loop.iter, ast.Call) and getattr(loop.iter.func, "id", None) in ("range", "list", "sorted"):
+                    continue
+                for node in [part for row in loop.body for part in ast.walk(row)]:
+                    if isinstance(node, ast.Call) and getattr(node.func, "attr", None) in changes:
+                        self.assertNotIn(ast.unparse(node.func.value), walked, node.lineno)
+                    if isinstance(node, ast.Subscript) and isinstance(node.ctx, ast.Store):
+                        self.assertNotIn(ast.unparse(node.value), walked, node.lineno)
+
+        self.each(judge)
+
     def test_names(self):
         def judge(source, tree):
             bound = bound_names(tree)

@@ -2,34 +2,9 @@ import unittest
 
 from deedloom.program import Program, reckoned
 from deedloom.text import shown
+from tests.made import asked
 
 WIDTHS = range(1, 9)
-
-
-def bits(word, width):
-    return [word // 2 ** k % 2 for k in range(width)]
-
-
-def by_bits(pick, x, y, width):
-    return sum(2 ** k * pick(a, b) for k, (a, b) in enumerate(zip(bits(x, width), bits(y, width))))
-
-
-def asked(op, x, y, width):
-    """What the document asks, reckoned another way than the program does."""
-    count = 2 ** width
-    if op == "plus":
-        return x + y if x + y < count else x + y - count
-    if op == "less":
-        return x - y if x >= y else x - y + count
-    if op == "and":
-        return by_bits(min, x, y, width)
-    if op == "or":
-        return by_bits(max, x, y, width)
-    if op == "xor":
-        return by_bits(lambda a, b: int(a != b), x, y, width)
-    if op == "below":
-        return int(y - x > 0)
-    return int(x - y == 0)
 
 
 class Reckoned(unittest.TestCase):
