@@ -8,10 +8,6 @@ BITS = 2
 SORTS = {"plus": SUMS, "less": SUMS, "below": LOOKS, "same": LOOKS, "and": BITS, "or": BITS, "xor": BITS}
 
 
-def is_deed(row):
-    return row[0] != "if" and row[0] != "while"
-
-
 def operands_of(deed):
     return deed[1:] if deed[0] == "tell" else deed[2:]
 

@@ -7,6 +7,7 @@ from deedloom.program import Program
 
 OPS = ("plus", "less", "and", "or", "xor", "below", "same")
 SORTS = (("plus", "less"), ("below", "same"), ("and", "or", "xor"))
+ALL_UNITS = [(a, b, c) for a in (1, 2, 3) for b in (1, 2, 3) for c in (1, 2, 3)]
 # Names that are words of the lines too, among plain ones.
 NAMES = ("width", "in", "box", "tell", "if", "else", "while", "end", "plus", "less", "and", "or", "xor",
          "below", "same", "copy", "a", "z", "abcdef")
@@ -79,6 +80,20 @@ class Rows:
         if self.chance.random() < 0.3:
             return self.chance.randint(0, 2 ** self.width - 1)
         return self.chance.choice(self.names)
+
+
+def read_by(deed):
+    return {part for part in (deed[1:] if deed[0] == "tell" else deed[2:]) if isinstance(part, str)}
+
+
+def written_by(deed):
+    return set() if deed[0] == "tell" else {deed[1]}
+
+
+def asked_gap(earlier, later):
+    if written_by(earlier) & (read_by(later) | written_by(later)) or (earlier[0], later[0]) == ("tell", "tell"):
+        return 1
+    return 0 if read_by(earlier) & written_by(later) else None
 
 
 def bits(word, width):
@@ -259,6 +274,24 @@ def judge_pace(test, program, words, states, pace, at_once, most=60):
     if woven.over_at is not None:
         test.assertIsNotNone(long_plain.over_at)
         test.assertEqual(woven.at(woven.over_at), long_plain.at(long_plain.over_at))
+
+
+def table_for(chance, program, many):
+    """Some table of the program's boxes that no program made, so that its ways lead anywhere."""
+    table = []
+    for place in range(many):
+        deeds = {}
+        for deed in deeds_of(chance, chance.randint(0, 4), program.boxes, program.width) if program.boxes else []:
+            deeds["tell" if deed[0] == "tell" else ("box", deed[1])] = deed
+        table.append((list(deeds.values()), ending_for(chance, program, many)))
+    return table
+
+
+def ending_for(chance, program, many):
+    kind = chance.choice(("go", "choose", "choose", "stop") if program.boxes else ("go", "stop"))
+    if kind == "choose":
+        return ("choose", chance.choice(program.boxes), chance.randrange(many), chance.randrange(many))
+    return ("go", chance.randrange(many)) if kind == "go" else ("stop",)
 
 
 def parts(program):

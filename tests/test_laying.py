@@ -3,21 +3,7 @@ import random
 import unittest
 
 from deedloom.laying import gap, is_laying, laid
-from tests.made import SORTS, deeds_of, spoil
-
-
-def read_by(deed):
-    return {part for part in (deed[1:] if deed[0] == "tell" else deed[2:]) if isinstance(part, str)}
-
-
-def written_by(deed):
-    return set() if deed[0] == "tell" else {deed[1]}
-
-
-def asked_gap(earlier, later):
-    if written_by(earlier) & (read_by(later) | written_by(later)) or (earlier[0], later[0]) == ("tell", "tell"):
-        return 1
-    return 0 if read_by(earlier) & written_by(later) else None
+from tests.made import ALL_UNITS, SORTS, asked_gap, deeds_of, spoil
 
 
 def asked_laying(deeds, units, beats):
@@ -60,9 +46,6 @@ def fewest_beats(deeds, units):
 def subsets(places):
     places = sorted(places)
     return itertools.chain.from_iterable(itertools.combinations(places, many) for many in range(len(places) + 1))
-
-
-ALL_UNITS = list(itertools.product((1, 2, 3), repeat=3))
 
 
 class Gap(unittest.TestCase):
