@@ -294,6 +294,98 @@ def ending_for(chance, program, many):
     return ("go", chance.randrange(many)) if kind == "go" else ("stop",)
 
 
+def asked_wires(rows, words, beats):
+    """The bits of all wires at each beat."""
+    told = []
+    for beat in range(beats):
+        bits = {}
+        for wire, (kind, *parts) in enumerate(rows):
+            if kind == "fix":
+                bits[wire] = parts[0]
+            elif kind == "in":
+                bits[wire] = words[parts[0]] // 2 ** parts[1] % 2
+            elif kind == "latch":
+                bits[wire] = told[beat - 1][parts[0]] if beat else 0
+            else:
+                of = [bits[part] for part in parts]
+                bits[wire] = int({"not": not of[0], "and": all(of), "or": any(of), "xor": sum(of) == 1}[kind])
+        told.append([bits[wire] for wire in range(len(rows))])
+    return told
+
+
+def some_rows(chance, many):
+    """Rows of gates that no program made."""
+    rows = []
+    for place in range(many):
+        kind = chance.choice(("fix", "in", "latch", "latch", "not", "and", "or", "xor") if place
+                             else ("fix", "in", "latch"))
+        if kind == "fix":
+            rows.append(("fix", chance.randint(0, 1)))
+        elif kind == "in":
+            rows.append(("in", chance.choice(("a", "b")), chance.randint(0, 3)))
+        elif kind == "latch":
+            rows.append(("latch", chance.randrange(many)))
+        else:
+            rows.append((kind,) + tuple(chance.randrange(place) for part in range(1 if kind == "not" else 2)))
+    return rows
+
+
+def net_parts(net):
+    return copy.deepcopy((net.rows, net.boxes, net.tell, net.said, net.stop))
+
+
+def judge_net(test, program, net):
+    """The form that point 15 gives a net."""
+    test.assertIs(type(net.rows), list)
+    test.assertLessEqual(len(net.rows), 60000)
+    for place, row in enumerate(net.rows):
+        test.assertIs(type(row), tuple)
+        test.assertEqual(len(row), {"fix": 2, "not": 2, "latch": 2}.get(row[0], 3))
+        test.assertIn(row[0], ("fix", "in", "latch", "not", "and", "or", "xor"))
+        if row[0] == "fix":
+            test.assertIn(row[1], (0, 1))
+        elif row[0] == "in":
+            test.assertIn(row[1], program.ins)
+            test.assertTrue(0 <= row[2] < program.width)
+        else:
+            bound = len(net.rows) if row[0] == "latch" else place
+            test.assertTrue(all(type(wire) is int and 0 <= wire < bound for wire in row[1:]))
+    test.assertIs(type(net.boxes), dict)
+    test.assertEqual(sorted(net.boxes), sorted(program.boxes))
+    for wires in list(net.boxes.values()) + [net.said]:
+        test.assertIs(type(wires), list)
+        test.assertEqual(len(wires), program.width)
+    for wire in sum(net.boxes.values(), net.said + [net.tell, net.stop]):
+        test.assertTrue(type(wire) is int and 0 <= wire < len(net.rows))
+
+
+def judge_beats(test, program, table, net, words, most=40):
+    """Beat by beat, what point 15 asks of a net's wires for a table."""
+    trace = traced_states(program, table, words, most, True)
+    told = asked_wires(net.rows, words, most + 1)
+    test.assertEqual((told[0][net.tell], told[0][net.stop]), (0, 0))
+    for beat, bits in enumerate(told[1:]):
+        over = trace.over_at is not None and beat >= trace.over_at
+        test.assertEqual(boxes_on(net, bits), trace.at(beat)[1])
+        test.assertEqual(bits[net.stop], int(over))
+        said = trace.told_behind(beat + 1)[len(trace.told_behind(beat)):]
+        test.assertEqual(bits[net.tell], len(said))
+        if said:
+            test.assertEqual(word_on(net.said, bits), said[0])
+
+
+def boxes_on(net, bits):
+    return {name: word_on(wires, bits) for name, wires in net.boxes.items()}
+
+
+def word_on(wires, bits):
+    return sum(2 ** k for k, wire in enumerate(wires) if bits[wire])
+
+
+def latches(net):
+    return sum(row[0] == "latch" for row in net.rows)
+
+
 def parts(program):
     """All fields, with copies of what they hold."""
     return copy.deepcopy((program.width, program.ins, program.boxes, program.rows))

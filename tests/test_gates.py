@@ -3,45 +3,7 @@ import random
 import unittest
 
 from deedloom.gates import wires_told
-from tests.made import spoil
-
-
-def asked_bit(rows, words, wire, beat, known):
-    """The bit of one wire at one beat, by its own row alone."""
-    if (wire, beat) not in known:
-        kind, *parts = rows[wire]
-        if kind == "fix":
-            bit = parts[0]
-        elif kind == "in":
-            bit = words[parts[0]] // 2 ** parts[1] % 2
-        elif kind == "latch":
-            bit = 0 if beat == 0 else asked_bit(rows, words, parts[0], beat - 1, known)
-        else:
-            of = [asked_bit(rows, words, part, beat, known) for part in parts]
-            bit = {"not": not of[0], "and": all(of), "or": any(of), "xor": sum(of) == 1}[kind]
-        known[(wire, beat)] = int(bit)
-    return known[(wire, beat)]
-
-
-def asked_wires(rows, words, beats):
-    known = {}
-    return [[asked_bit(rows, words, wire, beat, known) for wire in range(len(rows))] for beat in range(beats)]
-
-
-def some_rows(chance, many):
-    rows = []
-    for place in range(many):
-        kind = chance.choice(("fix", "in", "latch", "latch", "not", "and", "or", "xor") if place
-                             else ("fix", "in", "latch"))
-        if kind == "fix":
-            rows.append(("fix", chance.randint(0, 1)))
-        elif kind == "in":
-            rows.append(("in", chance.choice(("a", "b")), chance.randint(0, 3)))
-        elif kind == "latch":
-            rows.append(("latch", chance.randrange(many)))
-        else:
-            rows.append((kind,) + tuple(chance.randrange(place) for part in range(1 if kind == "not" else 2)))
-    return rows
+from tests.made import asked_wires, some_rows, spoil
 
 
 class Wires(unittest.TestCase):
