@@ -2,10 +2,8 @@
 
 from deedloom.program import reckoned
 
-SUMS = 0
-LOOKS = 1
-BITS = 2
-SORTS = {"plus": SUMS, "less": SUMS, "below": LOOKS, "same": LOOKS, "and": BITS, "or": BITS, "xor": BITS}
+# Sums are 0, looks 1 and bits 2, as they stand in units.
+SORTS = {"plus": 0, "less": 0, "below": 1, "same": 1, "and": 2, "or": 2, "xor": 2}
 
 
 def operands_of(deed):

@@ -192,13 +192,14 @@ class RunNet(unittest.TestCase):
         rows = [("tell", 3), ("tell", "a"), ("copy", "b", 2)]
         program = Program(2, ["a"], ["b"], rows)
         table = table_of(program, (1, 1, 1))
-        last = traced_states(program, table, {"a": 1}, 50, True).over_at
+        trace = traced_states(program, table, {"a": 1}, 50, True)
+        last = trace.over_at
         for coded in (False, True):
             net = net_of(program, table, coded)
             self.assertEqual(run_net(net, {"a": 1}, 0), ([], {"a": 0, "b": 0}, False))
             self.assertEqual(run_net(net, {"a": 1}, 1)[::2], ([], False))
-            self.assertEqual(run_net(net, {"a": 1}, 2), ([3], {"a": 1, "b": 0}, False))
-            self.assertEqual(run_net(net, {"a": 1}, last + 1)[::2], ([3, 1], False))
+            self.assertEqual(run_net(net, {"a": 1}, 2), (trace.told_behind(1), {"a": 1, "b": 0}, False))
+            self.assertEqual(run_net(net, {"a": 1}, last + 1), ([3, 1], trace.at(last - 1)[1], False))
             for beats in (last + 2, last + 3, 300):
                 self.assertEqual(run_net(net, {"a": 1}, beats), ([3, 1], {"a": 1, "b": 2}, True))
 
