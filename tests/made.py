@@ -3,7 +3,9 @@
 import copy
 import random
 
+from deedloom.net import net_of
 from deedloom.program import Program
+from deedloom.table import table_of
 
 OPS = ("plus", "less", "and", "or", "xor", "below", "same")
 SORTS = (("plus", "less"), ("below", "same"), ("and", "or", "xor"))
@@ -330,6 +332,14 @@ def some_rows(chance, many):
     return rows
 
 
+def net_with(rows, boxes, tell, said, stop):
+    """A net of these rows and wires, whichever way nets are made."""
+    program = Program(1, [], [], [])
+    net = net_of(program, table_of(program, (1, 1, 1)))
+    net.rows, net.boxes, net.tell, net.said, net.stop = rows, boxes, tell, said, stop
+    return net
+
+
 def net_parts(net):
     return copy.deepcopy((net.rows, net.boxes, net.tell, net.said, net.stop))
 
@@ -384,6 +394,13 @@ def word_on(wires, bits):
 
 def latches(net):
     return sum(row[0] == "latch" for row in net.rows)
+
+
+def judge_told(test, told):
+    """The kinds in what a run tells; a word is never True or False."""
+    test.assertIs(type(told), tuple)
+    test.assertEqual([type(part) for part in told], [list, dict, bool])
+    test.assertEqual({type(word) for word in told[0] + list(told[1].values())} - {int}, set())
 
 
 def parts(program):

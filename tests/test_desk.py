@@ -165,7 +165,8 @@ class Answers(Said):
         for kind in ("beats", "gates"):
             told = self.say(f"{kind} 300").split(" ")
             self.assertEqual(set(told), {"going", "1"})
-            self.assertGreater(len(told), 70)
+            # In 73 steps 36 words are told, and no more than 296 beats are needed for them.
+            self.assertGreaterEqual(len(told), 1 + 36)
 
     def test_ever(self):
         self.say("program width 2 / in a / tell 3 / tell 2 / while a / tell 1 / tell 0 / end / tell a")

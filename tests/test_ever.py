@@ -4,7 +4,7 @@ import unittest
 from deedloom.errors import LoomError, TooLong
 from deedloom.ever import ever
 from deedloom.program import Program
-from tests.made import Trace, lively_programs, parts, program_of, spoil, words_of
+from tests.made import Trace, judge_told, lively_programs, parts, program_of, spoil, words_of
 
 
 def asked_ever(program, words, most=1000):
@@ -164,7 +164,14 @@ class Ever(unittest.TestCase):
             self.assertEqual(ever(program, words), again)
             self.assertEqual((words, parts(program)), ({"a": 2}, kept))
 
+    def test_words_are_not_told_again(self):
+        words = {"a": 3, "b": 1}
+        spoil(ever(Program(2, ["a", "b"], [], []), words))
+        self.assertEqual(words, {"a": 3, "b": 1})
+
     def test_kinds(self):
+        told = ever(Program(2, ["a"], ["c"], [("same", "c", "a", 2), ("tell", "c"), ("below", "c", "c", 3)]), {"a": 2})
+        judge_told(self, told[1:] + (True,))
         told = ever(Program(2, ["a"], [], [("tell", "a")]), {"a": 2})
         self.assertEqual([type(told)] + [type(part) for part in told], [tuple, str, list, dict])
         told = ever(Program(2, ["a"], [], [("while", "a", [("tell", 1)])]), {"a": 2})

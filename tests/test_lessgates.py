@@ -6,8 +6,8 @@ from deedloom.net import Net, net_of, run_net
 from deedloom.program import Program
 from deedloom.states import fewer_states
 from deedloom.table import table_of
-from tests.made import (ALL_UNITS, asked_wires, judge_beats, judge_net, lively_programs, net_parts, program_of,
-                        some_rows, spoil, words_of)
+from tests.made import (ALL_UNITS, asked_wires, judge_beats, judge_net, lively_programs, net_parts, net_with,
+                        program_of, some_rows, spoil, words_of)
 
 GATES = ("not", "and", "or", "xor")
 
@@ -65,7 +65,7 @@ class RowsByHand(Judged):
     """Rows that no program made, with wires that the net is to tell."""
 
     def rows(self, rows, tell, stop=0, box=(), said=()):
-        net = Net(rows, {"b": list(box)}, tell, list(said), stop)
+        net = net_with(rows, {"b": list(box)}, tell, list(said), stop)
         words = [{"x": x, "y": y} for x in (0, 1) for y in (0, 1)]
         return self.judge(net, words, 9)
 
@@ -134,7 +134,7 @@ class RowsByHand(Judged):
             many = chance.randint(1, 30)
             rows = some_rows(chance, many)
             wires = [chance.randrange(many) for turn in range(8)]
-            net = Net(rows, {"p": wires[:2], "q": wires[2:4]}, wires[4], wires[5:7], wires[7])
+            net = net_with(rows, {"p": wires[:2], "q": wires[2:4]}, wires[4], wires[5:7], wires[7])
             words = [{"a": chance.randint(0, 15), "b": chance.randint(0, 15)} for turn in range(3)]
             fewer = self.judge(net, words)
             self.judge(fewer, words)
@@ -175,7 +175,7 @@ class NetsOfPrograms(Judged):
                 rows.extend(chance.choice(([("not", wire), ("not", first)], [("and", wire, wire)],
                                            [("fix", 0), ("or", wire, first)], [("fix", 1), ("and", first, wire)],
                                            [("fix", 0), ("latch", first), ("xor", first + 1, wire)])))
-            net = Net(rows, net.boxes, net.tell, net.said, net.stop)
+            net = net_with(rows, net.boxes, net.tell, net.said, net.stop)
             fewer = self.judge(net, words_lists)
             self.assertLess(len(fewer.rows), len(net.rows))
 

@@ -7,8 +7,8 @@ from deedloom.net import Net, net_of, run_net
 from deedloom.program import Program
 from deedloom.states import fewer_states
 from deedloom.table import table_of
-from tests.made import (ALL_UNITS, OPS, asked_wires, boxes_on, judge_beats, judge_net, latches, lively_programs,
-                        net_parts, parts, program_of, spoil, traced_states, word_on, words_of)
+from tests.made import (ALL_UNITS, OPS, asked_wires, boxes_on, judge_beats, judge_net, judge_told, latches,
+                        lively_programs, net_parts, parts, program_of, spoil, traced_states, word_on, words_of)
 
 
 def all_words(program):
@@ -88,8 +88,8 @@ class NetOf(Judged):
         rows = [("copy", "c", "a"), ("copy", "a", "b"), ("copy", "b", "c"), ("tell", "a"), ("tell", "b")]
         program = Program(2, ["a", "b"], ["c"], rows)
         self.through(program, (1, 1, 1), all_words(program), 10)
-        table = [([("copy", "a", "b"), ("copy", "b", "a"), ("tell", "a")], ("go", 1)), ([("tell", "a")], ("stop",))]
-        self.judge(program, table, all_words(program), 6)
+        rows = [("tell", "a"), ("copy", "a", 1), ("copy", "c", "b"), ("copy", "b", 2), ("tell", "a"), ("tell", "c")]
+        self.through(Program(2, ["a", "b"], ["c"], rows), (1, 1, 1), all_words(program), 10)
 
     def test_ifs_and_whiles(self):
         for rows in (
@@ -146,21 +146,18 @@ class NetOf(Judged):
 
 
 class Coded(Judged):
-    def test_tables_of_few_states(self):
-        chance = random.Random(95)
-        program = Program(2, ["a"], ["b"], [])
-        for many in list(range(1, 20)) + [30, 31, 62, 63]:
-            # One state behind the other, so that a run comes through all of them.
-            table = [([("tell", chance.choice(("a", 1, 2)))], ("go", place + 1)) for place in range(many - 1)]
-            table.append(([("plus", "b", "b", 1)], ("stop",)))
-            self.judge(program, table, [{"a": 3}], many + 3)
+    def test_tables_of_few_and_many_states(self):
+        for many in list(range(20)) + [29, 30, 31, 38, 40]:
+            # Tells can't share a beat, so there are as many states at least.
+            program = Program(2, ["a"], ["b"], [("tell", chosen) for chosen in ("a", 1, "b", 2) * 10][:many])
+            self.through(program, (1, 1, 1), [{"a": 3}], many + 5)
 
     def test_states_that_choose(self):
-        program = Program(2, ["a"], [], [])
-        for many in (1, 2, 3, 5, 6, 7):
-            table = [([("less", "a", "a", 1)], ("choose", "a", place, (place + 1) % many)) for place in range(many)]
-            table[-1] = ([("tell", "a")], ("stop",))
-            self.judge(program, table, all_words(program), 40)
+        for many in range(1, 8):
+            rows = [("while", "a", [("less", "a", "a", 1)] + [("if", "b", [("tell", "a")], [("tell", 1)])] * many),
+                    ("tell", 3)]
+            program = Program(2, ["a", "b"], [], rows)
+            self.through(program, (1, 1, 1), all_words(program), 40)
 
     def test_the_last_argument(self):
         program = Program(2, ["a"], ["b"], [("tell", "a")] * 12)
@@ -255,11 +252,30 @@ class RunNet(unittest.TestCase):
             self.assertEqual(net_parts(net_of(program, table, coded)), again)
             self.assertEqual(table, table_of(program, (1, 1, 1)))
 
+    def test_a_net_keeps_nothing_of_what_it_was_made_of(self):
+        rows = [("while", "a", [("less", "a", "a", 1), ("tell", "a")])]
+        program = Program(2, ["a"], [], rows)
+        table = table_of(program, (1, 1, 1))
+        net = net_of(program, table)
+        told = run_net(net, {"a": 3}, 60)
+        spoil(table)
+        spoil(program.rows)
+        spoil(program.boxes)
+        spoil(program.ins)
+        self.assertEqual(run_net(net, {"a": 3}, 60), told)
+        self.assertEqual(told, ([2, 1, 0], {"a": 0}, True))
+
+    def test_words_are_not_told_again(self):
+        program = Program(2, ["a", "b"], [], [])
+        words = {"a": 3, "b": 1}
+        spoil(run_net(net_of(program, table_of(program, (1, 1, 1))), words, 9))
+        self.assertEqual(words, {"a": 3, "b": 1})
+
     def test_kinds_and_names_of_arguments(self):
-        program = Program(2, ["a"], ["b"], [])
-        told = run_net(net=net_of(program, table_of(program, (1, 1, 1))), words={"a": 1}, beats=2)
-        self.assertIs(type(told), tuple)
-        self.assertEqual([type(part) for part in told], [list, dict, bool])
+        program = Program(2, ["a"], ["b"], [("same", "b", "a", 1), ("tell", "b"), ("below", "b", "a", 3)])
+        net = net_of(program, table_of(program, (1, 1, 1)))
+        for beats in (0, 2, 3, 50):
+            judge_told(self, run_net(net=net, words={"a": 1}, beats=beats))
 
 
 if __name__ == "__main__":

@@ -3,7 +3,7 @@ import unittest
 
 from deedloom.plain import run
 from deedloom.program import Program
-from tests.made import asked, lively_programs, parts, program_of, spoil, traced, words_of
+from tests.made import asked, judge_told, lively_programs, parts, program_of, spoil, traced, words_of
 
 
 class EachKind(unittest.TestCase):
@@ -162,11 +162,25 @@ class TheAskersOwn(unittest.TestCase):
         run(self.program, {"a": 2, "b": 0}, 100)
         self.assertEqual(first, ([2, 1, 0], {"a": 0, "b": 1, "c": 0}, True))
 
+    def test_words_are_not_told_again(self):
+        program = Program(2, ["a", "b"], [], [("tell", "a")])
+        words = {"a": 3, "b": 1}
+        for most in (0, 1):
+            spoil(run(program, words, most))
+            self.assertEqual(words, {"a": 3, "b": 1})
+
+    def test_changing_words_behind_the_call_changes_nothing(self):
+        words = {"a": 3, "b": 1}
+        told = run(self.program, words, 2)
+        words["a"] = 0
+        self.assertEqual(told, ([], {"a": 2, "b": 1, "c": 0}, False))
+
     def test_kinds(self):
-        told = run(self.program, {"a": 3, "b": 1}, 4)
-        self.assertEqual([type(part) for part in told], [list, dict, bool])
-        self.assertIs(type(told), tuple)
-        self.assertEqual(list(told[1]), ["a", "b", "c"])
+        rows = [("below", "c", "a", "b"), ("tell", "c"), ("same", "c", "a", "a"), ("tell", "c")]
+        program = Program(2, ["a", "b"], ["c"], rows)
+        for most in range(6):
+            judge_told(self, run(program, {"a": 1, "b": 3}, most))
+            judge_told(self, run(Program(2, ["a", "b"], ["c"], []), {"a": 1, "b": 3}, most))
 
     def test_arguments_have_their_names(self):
         self.assertEqual(run(program=self.program, words={"a": 0, "b": 0}, most=1),

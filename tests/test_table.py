@@ -4,8 +4,8 @@ import unittest
 
 from deedloom.program import Program
 from deedloom.table import run_table, table_of
-from tests.made import (ALL_UNITS, SORTS, asked, judge_pace, judge_states, lively_programs, parts, program_of, spoil,
-                        table_for, traced_states, words_of)
+from tests.made import (ALL_UNITS, SORTS, asked, judge_pace, judge_states, judge_told, lively_programs, parts,
+                        program_of, spoil, table_for, traced_states, words_of)
 
 
 class TableOf(unittest.TestCase):
@@ -186,10 +186,18 @@ class RunTable(unittest.TestCase):
             self.assertEqual(run_table(self.PROGRAM, table, words, most), again)
         self.assertEqual(words, {"a": 3, "b": 1})
 
+    def test_words_are_not_told_again(self):
+        program = Program(2, ["a", "b"], [], [])
+        words = {"a": 3, "b": 1}
+        for most in (0, 1, 2):
+            spoil(run_table(program, [([("tell", "a")], ("stop",))], words, most))
+            self.assertEqual(words, {"a": 3, "b": 1})
+
     def test_kinds_and_names_of_arguments(self):
-        told = run_table(program=self.PROGRAM, table=[([], ("stop",))], words={"a": 3, "b": 1}, most=1)
-        self.assertIs(type(told), tuple)
-        self.assertEqual([type(part) for part in told], [list, dict, bool])
+        table = [([("below", "c", "a", "b"), ("tell", "c")], ("go", 1)), ([("same", "c", "a", "a")], ("go", 2)),
+                 ([("tell", "c")], ("stop",))]
+        for most in range(5):
+            judge_told(self, run_table(program=self.PROGRAM, table=table, words={"a": 3, "b": 5}, most=most))
 
 
 if __name__ == "__main__":
